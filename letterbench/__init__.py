@@ -1,0 +1,1 @@
+"""Letterbench: caught letters, byte by byte."""
