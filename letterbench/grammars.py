@@ -4,7 +4,7 @@ A table is a dict from the names of a grammar's kinds to their fields.
 """
 
 from letterbench.errors import NoGrammar, NoKind
-from letterbench.forms import REST, first_unlike, is_tuple_of
+from letterbench.forms import REST, first_unlike, is_tuple_of, names_in
 from letterbench.numbers import is_word, sum_size
 
 MOST_KINDS = 10
@@ -44,6 +44,40 @@ def length_of(field):
     if field[0] == "row":
         return field[3]
     return None
+
+
+def many_told(length, worths):
+    """How many bytes a length tells by the worths of its kind's tags; None of one to the rest."""
+    if length[0] == "is":
+        return length[1]
+    if length[0] == "of":
+        _, tag, times, more = length
+        return times * worths[tag] + more
+    return None
+
+
+def way_of(field, worths):
+    """The kind that a choice comes to by its tag's worth; None where there is none."""
+    for worth, kind in field[3]:
+        if worth == worths[field[2]]:
+            return kind
+    return None
+
+
+def number_called(fields, name):
+    """The number of the field that has this name, itself or as a part; None where none has."""
+    for number, field in enumerate(fields):
+        if name in names_in(field):
+            return number
+    return None
+
+
+def bounds_of(field, name):
+    """The least and the most worth of a number, or of the part of bits that has this name."""
+    if field[0] == "number":
+        return field[4], field[5]
+    widths = {part: width for part, width in field[1]}
+    return 0, (1 << widths[name]) - 1
 
 
 def named_kinds(field):

@@ -5,6 +5,7 @@ from letterbench.errors import NoNumber
 LETTERS = "abcdefghijklmnopqrstuvwxyz"
 MOST_LETTERS = 8
 ORDERS = ("big", "small")
+WORDS = ("same", "less", "more")
 SUM_SIZES = {"plain": 1, "placed": 2, "mixed": 2}
 
 
@@ -40,6 +41,15 @@ def is_bytes(thing):
 def is_number(thing, size):
     """Whether this is a number of this size."""
     return is_whole(thing) and thing >= 0 and thing.bit_length() <= 8 * size
+
+
+def is_so(number, word, worth):
+    """Whether a number is same as, less or more than a worth."""
+    if word == "same":
+        return number == worth
+    if word == "less":
+        return number < worth
+    return number > worth
 
 
 def bytes_of(number, size, *, order="big"):

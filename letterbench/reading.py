@@ -2,7 +2,7 @@
 
 from letterbench.errors import NoLetter
 from letterbench.forms import REST
-from letterbench.grammars import ahead_of_sum, field_to_rest, kind_or_first, table_of
+from letterbench.grammars import ahead_of_sum, field_to_rest, kind_or_first, many_told, table_of, way_of
 from letterbench.numbers import is_bytes, number_in, sum_by, sum_size
 
 
@@ -96,19 +96,11 @@ def read_bits(reading, thing, field, limit):
         thing.worths[name] = worth
 
 
-def many_by(thing, length, limit):
-    """How many bytes a length tells."""
-    if length[0] == "is":
-        return length[1]
-    if length[0] == "of":
-        _, tag, times, more = length
-        return times * thing.worths[tag] + more
-    return limit - thing.at
-
-
 def end_by(reading, thing, name, length, limit):
     """Where a field with a length ends; None where it can't be, and the reading was stopped."""
-    many = many_by(thing, length, limit)
+    many = many_told(length, thing.worths)
+    if many is None:
+        return limit
     if many < 0:
         stop_faulty(reading, thing, thing.at, name, "length")
         return None
@@ -138,18 +130,10 @@ def read_text(reading, thing, field, limit):
         read_well(reading, thing, end + 1, name, "text", reading.some[thing.at:end])
 
 
-def way_of(thing, field):
-    """The kind that a choice comes to by its tag's worth; None where there is none."""
-    for worth, kind in field[3]:
-        if worth == thing.worths[field[2]]:
-            return kind
-    return None
-
-
 def read_choice(reading, thing, field, limit):
     """Reads a thing of the kind that the tag tells."""
     name = field[1]
-    kind = way_of(thing, field)
+    kind = way_of(field, thing.worths)
     if kind is None:
         reading.told(thing.at, thing.end, thing.path + (name,), "unknown", "choice")
         thing.stopped = True
@@ -222,7 +206,7 @@ def limit_of(reading, thing, fields, number):
 
 def read_field(reading, thing, field, limit):
     """Reads one field; what goes to the rest is lacking where the sum behind it has no room for its bytes."""
-    is_open = field[0] != "choice" or way_of(thing, field) is not None
+    is_open = field[0] != "choice" or way_of(field, thing.worths) is not None
     if limit < thing.at and is_open:
         stop_lacking(reading, thing, field[1], "short")
         return
@@ -255,11 +239,17 @@ def read_room(reading, kind, path, begin, end):
     return thing.worths
 
 
+def read_letter(grammar, some, kind):
+    """The spreads of bytes read by a kind, of None the first one, and the worths of what was read well."""
+    reading = Reading(grammar, some)
+    worths = read_room(reading, kind_or_first(grammar, kind), (), 0, len(some))
+    return reading.spreads, worths
+
+
 def spreads_of(grammar, some, *, kind=None):
     """The spreads of bytes read by a kind: (begin, end, path, what, worth) each, from the first byte to the last."""
-    reading = Reading(grammar, some)
-    read_room(reading, kind_or_first(grammar, kind), (), 0, len(some))
-    return reading.spreads
+    spreads, _ = read_letter(grammar, some, kind)
+    return spreads
 
 
 def is_good(spreads):
@@ -271,8 +261,7 @@ def fields_in(grammar, some, *, kind=None):
     """The worths of a good letter's fields, by their names, nested."""
     if not is_bytes(some):
         raise NoLetter(None)
-    reading = Reading(grammar, some)
-    worths = read_room(reading, kind_or_first(grammar, kind), (), 0, len(some))
-    if not is_good(reading.spreads):
+    spreads, worths = read_letter(grammar, some, kind)
+    if not is_good(spreads):
         raise NoLetter(None)
     return worths
