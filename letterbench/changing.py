@@ -33,14 +33,14 @@ def field_called(table, kind, name):
 
 
 def thing_within(field, worths, steps):
-    """The thing of a field that a path's next steps lead to, as (kind, worths, steps); None where they don't."""
+    """The thing of a field that a path's next steps, two at least, lead to, as (kind, worths, steps); else None."""
     if field is None or field[0] not in ("choice", "carried", "row"):
         return None
     worth = worths[field[1]]
     if field[0] != "row":
         kind, inner = worth
         return kind, inner, steps[:1]
-    if len(steps) < 2 or not is_between(steps[1], 0, len(worth) - 1):
+    if not is_between(steps[1], 0, len(worth) - 1):
         return None
     return field[2], worth[steps[1]], steps[:2]
 

@@ -32,7 +32,7 @@ def is_come_to(table, fields, number, words):
     field = fields[number]
     if field[0] not in words or not all([is_gone_over(ahead) for ahead in fields[:number]]):
         return False
-    return field[0] != "choice" or not ahead_of_sum(fields, number) or not field_to_rest(table, field, {})
+    return not ahead_of_sum(fields, number) or not field_to_rest(table, field, {})
 
 
 def kinds_behind(table, kinds, name, words):
@@ -55,7 +55,7 @@ def kinds_behind(table, kinds, name, words):
 
 def is_path(grammar, thing, words):
     """Whether this is a filter's path to fields of these sorts."""
-    if not is_tuple_of(thing, 1, MOST_NAMES) or not all([is_word(name) for name in thing]):
+    if not is_tuple_of(thing, 1, MOST_NAMES):
         return False
     table = table_of(grammar)
     kinds = {grammar[0][0]: True}

@@ -89,7 +89,8 @@ def first_unset(rows):
         if at in known:
             if asks_unset(row, known[at]):
                 return at
-            for to, boxes in ways_from(at, row, known[at]):
+            ways = ways_from(at, row, known[at])
+            for to, boxes in ways:
                 known[to] = boxes & known.get(to, boxes)
     return None
 

@@ -132,6 +132,25 @@ class Garbage(Cases):
                 self.assertEqual(spreads_of(grammar, some, kind=kind), spreads_of(alone, some))
 
 
+class LettersWithinLetters(Cases):
+    def test_read_as_they_do_alone_led_on_by_place_and_path(self):
+        chance = random.Random(9)
+        for grammar, letter, _ in drawn(10, 150):
+            ways = (("carried", "room", ("rest",), grammar[0][0]), ("carried", "room", ("of", "n", 1, 0), grammar[0][0]))
+            for some in (letter, letter[:chance.randint(0, len(letter))], letter + (7,), draw_bytes(chance, 9)):
+                alone = [(begin + 1, end + 1, ("room",) + path, what, worth)
+                         for begin, end, path, what, worth in spreads_of(grammar, some)]
+                for way in ways:
+                    around = (("around", (("number", "n", 1, "big", 0, 255), way)),) + grammar
+                    self.assertIsNone(look_at_grammar(around))
+                    told = spreads_of(around, (len(some),) + some)
+                    self.assertEqual(told, [(0, 1, ("n",), "number", len(some))] + alone)
+                around = (("around", (("number", "n", 1, "big", 0, 255), ways[1], ("text", "t", 0))),) + grammar
+                end = len(some) + 1
+                self.assertEqual(spreads_of(around, (len(some),) + some + (5, 0)), [
+                    (0, 1, ("n",), "number", len(some))] + alone + [(end, end + 2, ("t",), "text", (5,))])
+
+
 def called(name):
     return "q" + name
 
