@@ -6,7 +6,7 @@ from the whole letter inward: a list of tuples (kind, worths, path).
 
 from letterbench.errors import Barred, NoLetter, NoNumber, NoPath
 from letterbench.forms import names_in
-from letterbench.grammars import bounds_of, length_of, number_called, table_of
+from letterbench.grammars import bounds_of, field_called, length_of, table_of
 from letterbench.numbers import is_between, is_bytes
 from letterbench.reading import is_good, read_letter
 from letterbench.writing import fits, write_thing, written
@@ -22,14 +22,6 @@ def worths_whole(grammar, some):
     if not is_good(spreads) or any([what == "unknown" for _, _, _, what, _ in spreads]):
         raise NoLetter(None)
     return worths
-
-
-def field_called(table, kind, name):
-    """The field of a kind that has this name, itself or as a part; None where none has."""
-    number = number_called(table[kind], name)
-    if number is None:
-        return None
-    return table[kind][number]
 
 
 def thing_within(field, worths, steps):

@@ -72,6 +72,14 @@ def number_called(fields, name):
     return None
 
 
+def field_called(table, kind, name):
+    """The field of a kind that has this name, itself or as a part; None where none has."""
+    number = number_called(table[kind], name)
+    if number is None:
+        return None
+    return table[kind][number]
+
+
 def bounds_of(field, name):
     """The least and the most worth of a number, or of the part of bits that has this name."""
     if field[0] == "number":
