@@ -5,7 +5,8 @@ While rows are written, what a row goes to is told by a mark, a number that is p
 
 from letterbench.errors import TooMany
 from letterbench.filters import look_at_filter
-from letterbench.grammars import field_called, length_of, named_kinds, number_called, table_of
+from letterbench.forms import names_in
+from letterbench.grammars import bounds_of, field_called, length_of, number_called, table_of
 from letterbench.rows import MOST_ROWS
 
 # How far from its place a row sees or moves at most.
@@ -26,12 +27,18 @@ class Script:
 
 
 class Stretch:
-    """A thing of a kind while rows go over it: the box of each tag, how far ahead of the machine's place they are."""
+    """A thing of a kind while rows go over it up to a field.
+
+    It has the box of each tag, how far ahead of the machine's place the rows are, and where to go where the bytes
+    are not as they must be. The worths of an early tag, that one kind alone is behind, are asked as soon as it is seen.
+    """
 
     def __init__(self, boxes, otherwise):
         self.boxes = boxes
-        self.ahead = 0
         self.otherwise = otherwise
+        self.ahead = 0
+        self.early = None
+        self.worths = []
 
 
 def new_mark(script):
@@ -61,6 +68,39 @@ def resolved(script):
     return tuple(rows)
 
 
+def worths_taken(field, name, wish):
+    """The least and the most worth of a number or part that a filter takes; where it takes none they are turned."""
+    least, most = bounds_of(field, name)
+    if wish[0] == "is":
+        _, _, word, worth = wish
+        if word != "less":
+            least = max(least, worth if word == "same" else worth + 1)
+        if word != "more":
+            most = min(most, worth if word == "same" else worth - 1)
+    return least, most
+
+
+def leads_on(table, kind, path, wish):
+    """Whether there are bytes with a thing of this kind, at the beginning of this path, that a filter takes."""
+    field = field_called(table, kind, path[0])
+    if field is None:
+        return False
+    if field[0] == "choice":
+        return len(ways_on(table, kind, path, wish)) > 0
+    least, most = worths_taken(field, path[0], wish)
+    return least <= most
+
+
+def ways_on(table, kind, path, wish):
+    """The ways of a choice, at the beginning of a path, by which a filter may take bytes."""
+    _, _, tag, ways = field_called(table, kind, path[0])
+    least, most = bounds_of(field_called(table, kind, tag), tag)
+    come_to = [(worth, inner) for worth, inner in ways if least <= worth <= most]
+    if len(path) == 1:
+        return [(worth, inner) for worth, inner in come_to if inner == wish[2]]
+    return [(worth, inner) for worth, inner in come_to if leads_on(table, inner, path[1:], wish)]
+
+
 def write_moves(script, stretch):
     """Moves the place to where the rows are, which are so known to be within the bytes."""
     while stretch.ahead > 0:
@@ -71,38 +111,62 @@ def write_moves(script, stretch):
 
 
 def write_take(script, stretch, field, name):
-    """Takes a number, or a part of bits, and goes elsewhere where it isn't there or is beyond its bounds."""
+    """Takes a number, or a part of bits."""
     if stretch.ahead > FARTHEST:
         write_moves(script, stretch)
     box = stretch.boxes.get(name, PASSING)
-    if field[0] == "bits":
-        widths = [width for _, width in field[1]]
-        number = [part for part, _ in field[1]].index(name)
-        shift = sum(widths[number + 1:])
-        write_row(script, ("part", box, stretch.ahead, shift, widths[number], stretch.otherwise))
+    if field[0] == "number":
+        write_row(script, ("take", box, stretch.ahead, field[2], field[3], stretch.otherwise))
         return
-    _, _, size, order, least, most = field
-    write_row(script, ("take", box, stretch.ahead, size, order, stretch.otherwise))
+    shift = 8
+    for part, width in field[1]:
+        shift -= width
+        if part == name:
+            write_row(script, ("part", box, stretch.ahead, shift, width, stretch.otherwise))
+
+
+def most_of(field, name):
+    """The most that a number or part may be by its bytes or bits alone."""
+    if field[0] == "number":
+        return (1 << (8 * field[2])) - 1
+    _, most = bounds_of(field, name)
+    return most
+
+
+def write_bounds(script, stretch, field, name, bounds):
+    """Goes elsewhere where what was taken isn't within these bounds."""
+    least, most = bounds
+    box = stretch.boxes.get(name, PASSING)
     if least > 0:
         write_row(script, ("ask", box, "less", least, stretch.otherwise))
-    if most < (1 << (8 * size)) - 1:
+    if most < most_of(field, name):
         write_row(script, ("ask", box, "more", most, stretch.otherwise))
 
 
-def write_number(script, stretch, field):
-    """Goes over a number, which is taken where it is a tag or has bounds."""
-    _, name, size, _, least, most = field
-    if name in stretch.boxes or least > 0 or most < (1 << (8 * size)) - 1:
-        write_take(script, stretch, field, name)
-    stretch.ahead += size
+def write_asks(script, stretch, name, marks):
+    """Goes to these marks, tuples (worth, mark), by what was taken, and elsewhere by all else."""
+    for worth, mark in marks:
+        write_row(script, ("ask", stretch.boxes.get(name, PASSING), "same", worth, mark))
+    write_row(script, ("go", stretch.otherwise))
 
 
-def write_bits(script, stretch, field):
-    """Goes over bits, of which the tags are taken."""
-    for name, _ in field[1]:
-        if name in stretch.boxes:
-            write_take(script, stretch, field, name)
-    stretch.ahead += 1
+def write_tag(script, stretch, field, name):
+    """Takes a number or part; where it is the early tag, all that doesn't lead on goes elsewhere."""
+    write_take(script, stretch, field, name)
+    if name == stretch.early:
+        mark = new_mark(script)
+        write_asks(script, stretch, name, [(worth, mark) for worth in stretch.worths])
+        put_mark(script, mark)
+    else:
+        write_bounds(script, stretch, field, name, bounds_of(field, name))
+
+
+def write_numbers(script, stretch, field):
+    """Goes over a number or bits, of which are taken the tags, and what has bounds."""
+    for name in names_in(field):
+        if name in stretch.boxes or bounds_of(field, name) != (0, most_of(field, name)):
+            write_tag(script, stretch, field, name)
+    stretch.ahead += field[2] if field[0] == "number" else 1
 
 
 def write_bytes(script, stretch, field):
@@ -117,13 +181,6 @@ def write_bytes(script, stretch, field):
     script.has_moved = True
 
 
-WRITERS = {
-    "number": write_number,
-    "bits": write_bits,
-    "bytes": write_bytes,
-}
-
-
 def boxes_of(fields, number):
     """A box for each tag that the bytes ahead of this field, or the field itself as a choice, hang on."""
     boxes = {}
@@ -136,76 +193,74 @@ def boxes_of(fields, number):
     return boxes
 
 
-def leads_on(table, kind, path):
-    """Whether from this kind on a path leads to a field by some way."""
-    field = field_called(table, kind, path[0])
-    if field is None or len(path) == 1:
-        return field is not None
-    return any([leads_on(table, inner, path[1:]) for inner in named_kinds(field)])
-
-
-def write_ways(script, stretch, field, marks):
-    """Goes by a choice's tag to where the marks of the kinds are; elsewhere from all others."""
-    write_moves(script, stretch)
-    for worth, kind in field[3]:
-        # No tag has a worth below 0, and none may be asked.
-        if kind in marks and worth >= 0:
-            write_row(script, ("ask", stretch.boxes[field[2]], "same", worth, marks[kind]))
-    write_row(script, ("go", stretch.otherwise))
+def write_stretch(script, stretch, fields):
+    """Goes over these fields."""
+    for field in fields:
+        if field[0] == "bytes":
+            write_bytes(script, stretch, field)
+        else:
+            write_numbers(script, stretch, field)
 
 
 def write_test(script, stretch, field, wish, so):
     """Asks the number or part that a filter names."""
-    write_take(script, stretch, field, wish[1][-1])
-    if wish[0] == "is":
-        write_row(script, ("ask", PASSING, wish[2], wish[3], so))
-        write_row(script, ("go", stretch.otherwise))
+    name = wish[1][-1]
+    least, most = worths_taken(field, name, wish)
+    write_take(script, stretch, field, name)
+    if least == most:
+        write_asks(script, stretch, name, [(least, so)])
     else:
+        write_bounds(script, stretch, field, name, (least, most))
         write_row(script, ("go", so))
 
 
-def marks_behind(script, kinds, path):
-    """Marks for the kinds behind a choice of these, by the path's first name, from which the rest of it leads on."""
-    marks = {}
-    for kind in kinds:
-        for inner in named_kinds(field_called(script.table, kind, path[0])):
-            if inner not in marks and leads_on(script.table, inner, path[1:]):
-                marks[inner] = new_mark(script)
+def write_choice(script, stretch, fields, number, marks):
+    """Goes over what is ahead of a choice, and to these marks, tuples (worth, mark), by its tag."""
+    tag = fields[number][2]
+    first = marks[0][1]
+    if all([mark == first for _, mark in marks]):
+        stretch.early = tag
+        stretch.worths = [worth for worth, _ in marks]
+    write_stretch(script, stretch, fields[:number])
+    write_moves(script, stretch)
+    if stretch.early is None:
+        write_asks(script, stretch, tag, marks)
+    else:
+        write_row(script, ("go", first))
+
+
+def marks_of(script, ways, behind):
+    """The marks of these ways, tuples (worth, mark); a kind that has none yet among those behind is given a new one."""
+    marks = []
+    for worth, kind in ways:
+        if kind not in behind:
+            behind[kind] = new_mark(script)
+        marks.append((worth, behind[kind]))
     return marks
-
-
-def write_stretch(script, kind, name, otherwise):
-    """Goes over a thing of a kind up to the field of this name; told are the stretch and the field."""
-    fields = script.table[kind]
-    number = number_called(fields, name)
-    stretch = Stretch(boxes_of(fields, number), otherwise)
-    for field in fields[:number]:
-        write = WRITERS[field[0]]
-        write(script, stretch, field)
-    return stretch, fields[number]
 
 
 def write_leaf(script, wish, so, otherwise):
     """Goes the path of a filter, kind by kind, and then to where its truth tells."""
+    path = wish[1]
+    if not leads_on(script.table, script.first, path, wish):
+        write_row(script, ("go", otherwise))
+        return
     if script.has_moved:
         write_row(script, ("back",))
-    path = wish[1]
-    start = new_mark(script)
-    kinds = {script.first: start}
+    kinds = {script.first: new_mark(script)}
     for depth, name in enumerate(path):
-        if depth < len(path) - 1:
-            behind = marks_behind(script, kinds, path[depth:])
-        elif wish[0] == "kind":
-            behind = {wish[2]: so}
-        else:
-            behind = None
-        for kind in kinds:
-            put_mark(script, kinds[kind])
-            stretch, field = write_stretch(script, kind, name, otherwise)
-            if behind is None:
-                write_test(script, stretch, field, wish, so)
+        behind = {wish[2]: so} if wish[0] == "kind" and depth == len(path) - 1 else {}
+        for kind, mark in list(kinds.items()):
+            put_mark(script, mark)
+            fields = script.table[kind]
+            number = number_called(fields, name)
+            stretch = Stretch(boxes_of(fields, number), otherwise)
+            if fields[number][0] == "choice":
+                marks = marks_of(script, ways_on(script.table, kind, path[depth:], wish), behind)
+                write_choice(script, stretch, fields, number, marks)
             else:
-                write_ways(script, stretch, field, behind)
+                write_stretch(script, stretch, fields[:number])
+                write_test(script, stretch, fields[number], wish, so)
         kinds = behind
 
 

@@ -57,7 +57,8 @@ def missed_on(steps, layer):
     many = min(list(layer.values()), default=0)
     # Spots with so many missed steps are all known when those with fewer were gone on from.
     while many <= max(list(found.values()), default=-1):
-        for spot in [spot for spot in found if found[spot] == many]:
+        now = [spot for spot in found if found[spot] == many]
+        for spot in now:
             for _, _, to in steps[spot]:
                 if found.get(to, many + 2) > many + 1:
                     found[to] = many + 1

@@ -30,7 +30,7 @@ def kinds_led_to(grammar, path):
     kinds = {grammar[0][0]: True}
     for name in path:
         behind = {}
-        for kind in kinds:
+        for kind in list(kinds):
             if is_sort(table, kind, name, LEADING):
                 for inner in named_kinds(field_called(table, kind, name)):
                     behind[inner] = True

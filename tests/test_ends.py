@@ -122,6 +122,11 @@ class Order(unittest.TestCase):
             self.assertEqual(self.number(call, NoCatch, (GOOD, GOOD), [(0, "x"), None]), 1)
             self.assertIsNone(self.number(call, NoCatch, (GOOD, GOOD), ((0, "x"),)))
 
+    def test_no_two_ends(self):
+        for call in self.CALLS:
+            for pair in (None, (), (GOOD,), (GOOD, GOOD, GOOD), [GOOD, GOOD], GOOD[0]):
+                self.assertIsNone(self.number(call, NoEnd, pair, [None]))
+
     def test_stands_in_its_file(self):
         for name in ("look_at_end", "look_at_catch"):
             self.assertEqual(getattr(ends, name).__module__, "letterbench.ends")
