@@ -91,11 +91,19 @@ def found_in(talks):
     return [relation for relation in found if relation is not None]
 
 
-def worth_by(relations, talk, place):
-    """The worth that the first of these relations that can gives to a place, by a talk's letters ahead; else None."""
-    for relation in relations:
+def giving(relations, talk, place):
+    """The first of these relations that can give a worth to a place: its number, and the worth; None where none can."""
+    for number, relation in enumerate(relations):
         if relation[1] == place:
             worth = worth_given(relation, talk)
             if worth is not None:
-                return worth
+                return number, worth
     return None
+
+
+def worth_by(relations, talk, place):
+    """The worth that the first of these relations that can gives to a place, by a talk's letters ahead; else None."""
+    given = giving(relations, talk, place)
+    if given is None:
+        return None
+    return given[1]
