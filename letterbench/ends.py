@@ -35,6 +35,15 @@ def look_at_end(thing):
             raise NoEnd(number)
 
 
+def is_end(thing):
+    """Whether this is an end."""
+    try:
+        look_at_end(thing)
+    except NoEnd:
+        return False
+    return True
+
+
 def is_caught(thing):
     """Whether this is a step that was caught."""
     return is_tuple_of(thing, 2, 2) and is_between(thing[0], 0, 1) and is_word(thing[1])

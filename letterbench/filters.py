@@ -105,11 +105,16 @@ def many_filters(grammar, thing, depth):
     return many
 
 
+def is_filter(grammar, thing):
+    """Whether this is a filter of a grammar."""
+    many = many_filters(grammar, thing, MOST_WITHIN)
+    return many is not None and many <= MOST_FILTERS
+
+
 def look_at_filter(grammar, thing):
     """Tells nothing of a filter; whatever else is handed in is refused."""
     look_at_grammar(grammar)
-    many = many_filters(grammar, thing, MOST_WITHIN)
-    if many is None or many > MOST_FILTERS:
+    if not is_filter(grammar, thing):
         raise NoFilter("no filter of this grammar")
 
 

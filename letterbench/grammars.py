@@ -250,3 +250,12 @@ def look_at_grammar(thing):
     look_at_named(thing, table)
     look_at_circles(thing, table)
     look_at_rests(thing, table)
+
+
+def is_grammar(thing):
+    """Whether this is a grammar."""
+    try:
+        look_at_grammar(thing)
+    except NoGrammar:
+        return False
+    return True
