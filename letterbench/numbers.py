@@ -7,6 +7,7 @@ MOST_LETTERS = 8
 ORDERS = ("big", "small")
 WORDS = ("same", "less", "more")
 SUM_SIZES = {"plain": 1, "placed": 2, "mixed": 2}
+MIXED_BEGIN = 5381
 
 
 def is_word(thing):
@@ -83,16 +84,21 @@ def sum_size(rule):
     return SUM_SIZES[rule]
 
 
+def mixed_on(so_far, some):
+    """What a mixed sum is so far, gone on with over these bytes."""
+    worth = so_far
+    for byte in some:
+        worth = (worth * 33 + byte) % 65536
+    return worth
+
+
 def sum_by(rule, some):
     """The sum of these bytes by this rule."""
     if rule == "plain":
         return sum(some) % 256
     if rule == "placed":
         return sum([place * byte for place, byte in enumerate(some, start=1)]) % 65521
-    so_far = 5381
-    for byte in some:
-        so_far = (so_far * 33 + byte) % 65536
-    return so_far
+    return mixed_on(MIXED_BEGIN, some)
 
 
 def sum_bytes(rule, some):

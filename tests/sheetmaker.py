@@ -113,9 +113,8 @@ def slow_sort(told, some):
     return kind if words[-1] == "choice" else "none"
 
 
-def slow_sheet(told, lot):
-    """The sheet of a lot, byte by byte and then put together again."""
-    sides = slow_sides(told, lot)
+def slow_caught(told, sides):
+    """The upper letters of both sides; and the first sixty as they were caught: (letter, side, begin, number, sort)."""
     uppers = []
     caught = []
     for side, (ordered, stream) in enumerate(sides):
@@ -125,7 +124,13 @@ def slow_sheet(told, lot):
         for number, (begin, end, _) in enumerate(letters):
             some = dict(whole["runs"])[0][begin:end]
             caught.append((max(stream[place] for place in range(end)), side, begin, number, slow_sort(told, some)))
-    caught = sorted(caught)[:60]
+    return uppers, sorted(caught)[:60]
+
+
+def slow_sheet(told, lot):
+    """The sheet of a lot, byte by byte and then put together again."""
+    sides = slow_sides(told, lot)
+    uppers, caught = slow_caught(told, sides)
     words = sureness(told["ends"], [(side, sort) for _, side, _, _, sort in caught])
     steps = {(side, number): (at, words[at]) for at, (_, side, _, number, _) in enumerate(caught)}
     rows = []
