@@ -142,6 +142,32 @@ class ModuleLevel(unittest.TestCase):
             self.assertEqual(sorted(names), sorted(set(names)), path.name)
 
 
+    def test_lists_and_dicts_there_are_only_read_in_place(self):
+        tables = {}
+        for path, tree in trees():
+            tables[path.stem] = {row.targets[0].id for row in tree.body if isinstance(row, ast.Assign) and isinstance(row.value, (ast.Dict, ast.List))}
+        for path, tree in trees():
+            known = set(tables[path.stem])
+            for row in tree.body:
+                if isinstance(row, ast.ImportFrom):
+                    known |= {alias.name for alias in row.names} & tables[row.module.split(".")[1]]
+            good = set()
+            for node in ast.walk(tree):
+                if isinstance(node, ast.Subscript):
+                    good.add(node.value)
+                elif isinstance(node, ast.Compare) and all(isinstance(sign, (ast.In, ast.NotIn)) for sign in node.ops):
+                    good.update(node.comparators)
+                elif isinstance(node, ast.Attribute) and node.attr in ("get", "items", "keys", "values"):
+                    good.add(node.value)
+                elif isinstance(node, (ast.For, ast.comprehension)):
+                    good.add(node.iter)
+                elif isinstance(node, ast.Call) and isinstance(node.func, ast.Name) and node.func.id in ("len", "sorted", "list", "dict"):
+                    good.update(node.args)
+            for node in ast.walk(tree):
+                if isinstance(node, ast.Name) and node.id in known and isinstance(node.ctx, ast.Load):
+                    self.assertIn(node, good, f"{path.name}:{node.lineno}")
+
+
 class Names(unittest.TestCase):
     def test_no_name_is_a_builtins_or_barred(self):
         for where, node in nodes(ast.Name, ast.arg, ast.FunctionDef, ast.ClassDef, ast.alias):
