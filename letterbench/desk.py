@@ -3,17 +3,32 @@
 from letterbench.book import Book
 from letterbench.changing import set_at
 from letterbench.compiling import rows_for
-from letterbench.errors import Bare, NoName, TooMany
+from letterbench.errors import Bare, NoLine, NoName, TooMany
 from letterbench.filters import takes
-from letterbench.lines import line_in
 from letterbench.reading import spreads_of
-from letterbench.signs import NOTHING, bytes_text, joined_or_nothing, path_text, truth_text
+from letterbench.signs import NOTHING, bytes_text, path_text, things_in, truth_text
 from letterbench.streams import together
 from letterbench.talks import talk_of
 from letterbench.texts import read_end, read_filter, read_grammar, show_rows
 
 MOST_NAMES = 8
-# The rows of the book.
+# By a row's first word the sorts of those behind.
+FORMS = {
+    "grammar": ("name", "text"),
+    "end": ("name", "text"),
+    "names": (),
+    "read": ("name", "bytes"),
+    "takes": ("name", "bytes", "text"),
+    "rows": ("name", "text"),
+    "set": ("name", "bytes", "steps", "worth"),
+    "least": ("name", "name", "catch"),
+    "book": ("figure", "name", "name", "name", "name", "name", "way", "name", "name", "last", "path"),
+    "catch": ("figure", "figure", "bytes"),
+    "sheet": ("figure",),
+    "runs": ("figure",),
+    "gone": (),
+    "turn": ("name", "name"),
+}
 OF_BOOK = ("catch", "sheet", "runs", "gone", "turn")
 
 
@@ -23,6 +38,29 @@ class Shelf:
     def __init__(self):
         self.kept = {}
         self.book = None
+
+
+def line_in(row):
+    """The first word of a row and the things behind; what is none by its form is refused."""
+    if not isinstance(row, str) or "\n" in row:
+        raise NoLine("no row of words")
+    word = row.partition(" ")[0]
+    sorts = FORMS.get(word)
+    if sorts is None:
+        raise NoLine("no row that begins so is known")
+    # Behind as many blanks as part words all is of the last word, which may have blanks in it where it is a text.
+    words = row.split(" ", len(sorts))
+    things = things_in(sorts, words[1:])
+    if words[0] != word or things is None:
+        raise NoLine("a word is none by its form, or there are more or fewer")
+    return word, things
+
+
+def joined(words, between):
+    """Words with signs between them; where there are none the word for nothing."""
+    if not words:
+        return NOTHING
+    return between.join(words)
 
 
 def kept_as(shelf, word, name):
@@ -54,7 +92,7 @@ def say_end(shelf, things):
 
 def say_names(shelf, _things):
     """Tells the names."""
-    return joined_or_nothing(sorted(shelf.kept), " ")
+    return joined(sorted(shelf.kept), " ")
 
 
 def worth_text(what, worth):
@@ -72,7 +110,7 @@ def say_read(shelf, things):
     told = []
     for begin, end, path, what, worth in spreads_of(kept_as(shelf, "grammar", name), some):
         told.append(f"{begin} {end} {path_text(path)} {what} {worth_text(what, worth)}")
-    return joined_or_nothing(told, "; ")
+    return joined(told, "; ")
 
 
 def say_takes(shelf, things):
@@ -139,14 +177,14 @@ def say_sheet(shelf, things):
         if letter == things[0]:
             layers = " ".join([layer_text(layer) for layer in (stream, upper, step)])
             told.append(f"{begin} {end} {path_text(path)} {what} {layers}")
-    return joined_or_nothing(told, "; ")
+    return joined(told, "; ")
 
 
 def say_runs(shelf, things):
     """Tells the runs of a side's stream."""
     pieces = shelf.book.pieces_of_side(things[0])
     runs = together(pieces, rule=shelf.book.settings()["rule"])["runs"]
-    return joined_or_nothing([f"{begin} {bytes_text(some)}" for begin, some in runs], "; ")
+    return joined([f"{begin} {bytes_text(some)}" for begin, some in runs], "; ")
 
 
 def say_gone(shelf, _things):
@@ -161,7 +199,7 @@ def say_turn(shelf, things):
     thing = name
     if part in ("lower", "upper"):
         thing = kept_as(shelf, "grammar", name)
-    return joined_or_nothing(shelf.book.turn(part, thing), " ")
+    return joined(shelf.book.turn(part, thing), " ")
 
 
 DEEDS = {

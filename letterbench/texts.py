@@ -1,20 +1,15 @@
 """Grammars, ends, filters, rows of the machine and lots written as texts, and read from these.
 
-What the words of a row are is told by their sorts: by its sort a word is read to a thing, and a thing written as a
-word. Of what is none by its form None is told, which nothing is that can be read.
+Of what is none by its form None is told, which nothing is that can be read.
 """
 
 from letterbench.ends import is_end, look_at_end
 from letterbench.errors import NoText
 from letterbench.filters import MOST_FILTERS, is_filter, look_at_filter
-from letterbench.forms import REST
 from letterbench.grammars import is_grammar, look_at_grammar
 from letterbench.rows import is_rows
 from letterbench.sheet import is_catch, look_at_lot
-from letterbench.signs import all_in, bytes_in, bytes_text, figure_in, name_in, path_in, path_text, truth_in, truth_text
-from letterbench.signs import whole_in
-
-TO_REST = "*"
+from letterbench.signs import all_in, name_in, things_in, words_of
 
 # The sorts of the words behind a row's first one.
 KIND = ("name",)
@@ -52,103 +47,6 @@ MACHINE = {
     "end": ("truth",),
 }
 CATCH = ("whole", "whole", "bytes")
-
-
-def length_by_tag(word):
-    """A length that hangs on a tag."""
-    tag, _, behind = word.partition(TO_REST)
-    sign = "-" if "-" in behind else "+"
-    times, _, more = behind.partition(sign)
-    length = ("of", name_in(tag), figure_in(times), whole_in("-" + more) if sign == "-" else figure_in(more))
-    if None in length:
-        return None
-    return length
-
-
-def length_in(word):
-    """A length."""
-    if word == TO_REST:
-        return REST
-    if TO_REST in word:
-        return length_by_tag(word)
-    many = whole_in(word)
-    if many is None:
-        return None
-    return ("is", many)
-
-
-def length_text(length):
-    """A length as a word."""
-    if length[0] == "is":
-        return str(length[1])
-    if length[0] == "of":
-        _, tag, times, more = length
-        return f"{tag}*{times}{more:+}"
-    return TO_REST
-
-
-def many_in(word):
-    """How many things a row has."""
-    if word == TO_REST:
-        return REST
-    tag = name_in(word)
-    if tag is None:
-        return None
-    return ("of", tag)
-
-
-def many_text(many):
-    """How many things a row has, as a word."""
-    if many == REST:
-        return TO_REST
-    return many[1]
-
-
-def same_text(thing):
-    """A name or a number as a word."""
-    return str(thing)
-
-
-READERS = {
-    "name": name_in,
-    "whole": whole_in,
-    "length": length_in,
-    "many": many_in,
-    "path": path_in,
-    "truth": truth_in,
-    "bytes": bytes_in,
-}
-WRITERS = {
-    "name": same_text,
-    "whole": same_text,
-    "length": length_text,
-    "many": many_text,
-    "path": path_text,
-    "truth": truth_text,
-    "bytes": bytes_text,
-}
-
-
-def things_in(sorts, words):
-    """The things that words of these sorts are read to, a tuple."""
-    if len(words) != len(sorts):
-        return None
-    things = []
-    for sort, word in zip(sorts, words):
-        read = READERS[sort]
-        things.append(read(word))
-    if None in things:
-        return None
-    return tuple(things)
-
-
-def words_of(sorts, things):
-    """The words that things of these sorts are written as."""
-    words = []
-    for sort, thing in zip(sorts, things):
-        write = WRITERS[sort]
-        words.append(write(thing))
-    return words
 
 
 def rows_in(text, read):
