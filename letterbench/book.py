@@ -76,7 +76,7 @@ class Book:
     def turn(self, part, thing):
         """Turns a part of the setting to another thing, and tells what has other things to go by."""
         self._look_whether_shut()
-        if not isinstance(part, str) or part not in PARTS:
+        if part not in PARTS:
             raise NoSetting(None)
         setting = self.settings()
         setting[part] = thing

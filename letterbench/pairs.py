@@ -1,8 +1,8 @@
 """Two makes compared: the pairs of stands that both come to by the same letters, or letters that part them."""
 
 from letterbench.forms import is_tuple_of
-from letterbench.makes import MOST_BOX, answers, first_stand, letters_heard, look_at_make, steps_by
-from letterbench.numbers import is_between, is_byte, is_word
+from letterbench.makes import answers, first_stand, letters_heard, look_at_make, steps_by
+from letterbench.numbers import is_byte, is_whole, is_word
 
 
 class Couple:
@@ -47,7 +47,7 @@ def compared_makes(one, other):
 
 def is_stand(thing, steps):
     """Whether this is a stand of the make that does these steps."""
-    return is_tuple_of(thing, 2, 2) and is_word(thing[0]) and is_between(thing[1], 0, MOST_BOX) and thing in steps
+    return is_tuple_of(thing, 2, 2) and is_word(thing[0]) and is_whole(thing[1]) and thing in steps
 
 
 def is_pair(thing, couple):

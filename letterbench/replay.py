@@ -4,7 +4,7 @@ from letterbench.ends import MOST_CAUGHT
 from letterbench.errors import Away, Bare, NoCatch, NoLetter, NoNumber, NoRelation
 from letterbench.forms import is_tuple_of
 from letterbench.numbers import is_between, is_whole, is_word
-from letterbench.relations import giving, holds, is_relation
+from letterbench.relations import giving, holds
 
 
 def are_fields(thing):
@@ -27,12 +27,12 @@ def look_at_talk(thing):
 
 
 def look_at_relations(thing, talk):
-    """Refuses what is no list of relations that hold in a talk."""
+    """Refuses what is no list of relations that hold in a talk; holds itself refuses what is no relation."""
     if not isinstance(thing, list):
         raise NoRelation("no list of relations")
     for relation in thing:
-        if not is_relation(relation) or not holds(relation, talk):
-            raise NoRelation("no relation that holds in this talk")
+        if not holds(relation, talk):
+            raise NoRelation("a relation that doesn't hold in this talk")
 
 
 def copy_of(talk):

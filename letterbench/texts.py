@@ -5,7 +5,7 @@ Of what is none by its form None is told, which nothing is that can be read.
 
 from letterbench.ends import is_end, look_at_end
 from letterbench.errors import NoText
-from letterbench.filters import MOST_FILTERS, is_filter, look_at_filter
+from letterbench.filters import is_filter, look_at_filter
 from letterbench.grammars import is_grammar, look_at_grammar
 from letterbench.rows import is_rows
 from letterbench.sheet import is_catch, look_at_lot
@@ -211,11 +211,7 @@ def joined_filter(heads):
 def read_filter(grammar, text):
     """The filter of a grammar that is so written."""
     look_at_grammar(grammar)
-    heads = rows_in(text, filter_row_in)[0]
-    # A text may have so many within one another that they can't be looked at.
-    if len(heads) > MOST_FILTERS:
-        raise NoText(None)
-    wish = joined_filter(heads)
+    wish = joined_filter(rows_in(text, filter_row_in)[0])
     if not is_filter(grammar, wish):
         raise NoText(None)
     return wish

@@ -95,6 +95,16 @@ class Parted(unittest.TestCase):
         heard = (("a",), (("a", "w", None, None, 3, "a"), ("a", "x", ("heard", "more", 2), ("y", "heard"), None, "a"), ("a", "x", None, ("y", "box"), None, "a")))
         self.so(box, heard, ("x", 3))
 
+    def test_a_number_that_is_just_the_first_one_of_those_that_may_be_heard(self):
+        def make(answer):
+            return (("a", "b"), (("a", "w", None, None, 3, "b"), ("b", "x", ("heard", "more", 9), ("y", answer), None, "b"),
+                                 ("b", "z", ("heard", "more", 2), ("y", answer if answer != 10 else 3), None, "b")))
+
+        self.so(make("heard"), make(10), ("w", 0), ("x", 11))
+        self.so(make("heard"), make("box"), ("w", 0), ("x", 10))
+        self.so((make("heard")[0], make("heard")[1][::2]), (make("box")[0], make("box")[1][::2]), ("w", 0), ("z", 4))
+        self.so(make(254), (make(254)[0], make(254)[1] + (("a", "x", ("heard", "more", 254), ("y", 1), None, "a"),)), ("x", 255))
+
     def test_told_anew(self):
         told = compared_makes(COUNTER, TWICE)
         told[1].clear()

@@ -279,6 +279,14 @@ class Heard(unittest.TestCase):
         self.away({"a": 2}, ("more", (1, "a"), (0, "a"), 1), 1)
         self.one.hear({"a": 8})
 
+    def test_a_relation_of_an_earlier_place_that_was_broken_does_not_count(self):
+        letters = [(0, {"a": 1}), (0, {"a": 2})]
+        self.one = Replay(letters, [("told", (0, "a"), None, 1), ("told", (1, "a"), None, 2)], 1)
+        self.one.hear({"a": 7}, anyway=True)
+        self.away({"a": 1}, ("told", (1, "a"), None, 2), 1)
+        self.one.hear({"a": 2})
+        self.assertEqual(self.one.due(), ("over",))
+
     def test_anyway(self):
         for fields in ({}, {"id": 7, "len": 4}, {"other": 5}):
             one = Replay(TALK, RELATIONS, 1)
