@@ -133,5 +133,6 @@ class Book:
             and self._setting == other._setting
             and self._room == other._room
             and self._held == other._held
-            and self.gone() == other.gone()
+            and self._many_gone == other._many_gone
+            and self._sum_gone == other._sum_gone
         )
